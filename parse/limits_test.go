@@ -64,14 +64,11 @@ func TestDepths(t *testing.T) {
 	nested := func(before, inside, after string) func(int) string {
 		return func(n int) string { return strings.Repeat(before, n-1) + inside + strings.Repeat(after, n-1) }
 	}
-	deep := []func(int) string{nested("2 * ", "x", ""), nested("", "x", " + 1"), nested("", "x", " - y"), nested("x - (", "y", ")"), nested("2 * (1 + (", "y", "))")}
-	for i, text := range deep {
-		text := text
-		if i == len(deep)-1 {
-			// two levels at a time, and one in front
-			inner := text
-			text = func(n int) string { return "3 * (" + inner((n-2)/2+1) + map[int]string{0: ")", 1: ") + 1"}[n%2] }
-		}
+	// each pair of parentheses stands for two levels, so one level is left over if n is even
+	mixed := func(n int) string {
+		return strings.Repeat("2 * (1 + (", (n-1)/2) + "y" + strings.Repeat("))", (n-1)/2) + strings.Repeat(" - 3", 1-n%2)
+	}
+	for _, text := range []func(int) string{nested("2 * ", "x", ""), nested("", "x", " + 1"), nested("", "x", " - y"), nested("x - (", "y", ")"), mixed} {
 		checkLimit(t, "expr", api.MaxDepth, text)
 		for _, around := range []struct{ name, before, after string }{
 			{"condition", "", " < 1"}, {"condition", "1 < 2 && (1 < ", ")"}, {"condition", "!1 < ", ""}, {"assertion", "", " == 1"}, {"assertion", "emp || emp & 1 < ", ""}, {"assertion", "ls(1, ", ")"}, {"assertion", "1 -> R(", ", 1)"}, {"assertion", "", " -> R(1)"},
