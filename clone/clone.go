@@ -1,0 +1,94 @@
+// Package clone copies trees: a copy shares no memory with its tree, which the results of the layers must not do either.
+package clone
+
+import (
+	"math"
+	"slices"
+
+	"sepal/api"
+)
+
+// list copies a list with the copies of its elements. Its copy is nil only if the list is.
+func list[T any](l []T, copyOf func(T) T) []T {
+	if l == nil {
+		return nil
+	}
+	to := make([]T, len(l))
+	for i, x := range l {
+		to[i] = copyOf(x)
+	}
+	return to
+}
+
+func expr(e api.Expr) api.Expr {
+	e.L = list(e.L, expr)
+	return e
+}
+
+func cond(c api.Cond) api.Cond {
+	c.A, c.B = expr(c.A), expr(c.B)
+	c.L = list(c.L, cond)
+	return c
+}
+
+func formula(f api.Formula) api.Formula {
+	f.Exists = slices.Clone(f.Exists)
+	f.Pure = list(f.Pure, atom)
+	f.Cells = list(f.Cells, cell)
+	return f
+}
+
+func atom(a api.Atom) api.Atom {
+	a.A, a.B = expr(a.A), expr(a.B)
+	return a
+}
+
+func cell(c api.Cell) api.Cell {
+	c.Args = list(c.Args, expr)
+	return c
+}
+
+func call(c api.Call) api.Call {
+	c.Args = list(c.Args, expr)
+	return c
+}
+
+// Stmts copies a list of statements.
+func Stmts(l []api.Stmt) []api.Stmt {
+	return stmtsWithin(l, math.MaxInt)
+}
+
+// StmtWithin copies a statement with the lists in it up to this many levels, and shares the deeper ones.
+func StmtWithin(s api.Stmt, levels int) api.Stmt {
+	s.E = expr(s.E)
+	s.C = cond(s.C)
+	s.Calls = list(s.Calls, call)
+	s.Inv = list(s.Inv, formula)
+	s.Body = stmtsWithin(s.Body, levels)
+	s.Else = stmtsWithin(s.Else, levels)
+	return s
+}
+
+func stmtsWithin(l []api.Stmt, levels int) []api.Stmt {
+	if levels == 0 {
+		return l
+	}
+	return list(l, func(s api.Stmt) api.Stmt { return StmtWithin(s, levels-1) })
+}
+
+// Record copies a record.
+func Record(r api.Record) api.Record {
+	r.Fields = slices.Clone(r.Fields)
+	return r
+}
+
+// Proc copies a procedure.
+func Proc(x api.Proc) api.Proc {
+	x.Params = slices.Clone(x.Params)
+	x.Logical = slices.Clone(x.Logical)
+	x.Requires = list(x.Requires, formula)
+	x.Ensures = list(x.Ensures, formula)
+	x.Locals = slices.Clone(x.Locals)
+	x.Body = Stmts(x.Body)
+	return x
+}
