@@ -1,11 +1,11 @@
 package machine
 
 import (
-	"cmp"
 	"slices"
 
 	"sepal/api"
 	"sepal/memory"
+	"sepal/steps"
 	"sepal/types"
 	"sepal/value"
 )
@@ -19,7 +19,7 @@ func Valid(p api.Program, s Start) api.Errno {
 	switch {
 	case !ok:
 		return api.ErrNone
-	case !hasNames(s.Model.Store, given(p, x)) || !areOf(p, s.Model.Memory):
+	case !hasNames(s.Model.Store, steps.Given(p, x)) || !areOf(p, s.Model.Memory):
 		return api.ErrForm
 	case !inRange(0, MaxInputs, len(s.Inputs), len(s.Choices)) ||
 		!inRange(-api.MaxInt, api.MaxInt, s.Inputs...) ||
@@ -44,32 +44,16 @@ func Store(p api.Program, proc string, args []int, globals []api.Binding) ([]api
 	case !inRange(-api.MaxInt, api.MaxInt, args...):
 		return nil, api.ErrRange
 	}
-	s := bindings(given(p, x), globals)
+	s := steps.Store(steps.Given(p, x), globals)
 	for i, n := range args {
 		s = value.Set(s, x.Params[i].Name, n)
 	}
 	return s, api.OK
 }
 
-// given returns the variables that the store of a start for a procedure gives values to.
-func given(p api.Program, x api.Proc) []api.Param {
-	return slices.Concat(p.Globals, x.Params, x.Logical)
-}
-
-// bindings returns the store that has these variables, with the values of another store, or 0 if that does not have them.
-func bindings(l []api.Param, from []api.Binding) []api.Binding {
-	var s []api.Binding
-	for _, x := range l {
-		n, _ := value.Get(from, x.Name)
-		s = append(s, api.Binding{Name: x.Name, Value: n})
-	}
-	slices.SortFunc(s, func(a, b api.Binding) int { return cmp.Compare(a.Name, b.Name) })
-	return s
-}
-
 // hasNames reports whether a valid store has exactly the names of these variables.
 func hasNames(s []api.Binding, l []api.Param) bool {
-	return slices.EqualFunc(s, bindings(l, nil), func(a, b api.Binding) bool { return a.Name == b.Name })
+	return slices.EqualFunc(s, steps.Store(l, nil), func(a, b api.Binding) bool { return a.Name == b.Name })
 }
 
 // areOf reports whether all blocks of a memory are of records of a program, and have as many fields as these.

@@ -1,4 +1,4 @@
-package machine
+package steps
 
 import (
 	"cmp"
@@ -11,7 +11,7 @@ import (
 )
 
 // find returns the index of the block at an address, and the part of the memory that has this block alone, or no block if there is none there. An operation on a block is the same in the part as in the whole, but the time for it does not grow with the memory.
-func (s *state) find(address int) (int, []api.Block) {
+func (s *State) find(address int) (int, []api.Block) {
 	i, ok := slices.BinarySearchFunc(s.memory, address, func(b api.Block, a int) int { return cmp.Compare(b.Address, a) })
 	if !ok {
 		return 0, nil
@@ -20,13 +20,13 @@ func (s *state) find(address int) (int, []api.Block) {
 }
 
 // field returns the record that is the type of a variable, and the index of one of its fields.
-func (s *state) field(f *frame, variable, name string) (string, int) {
+func (s *State) field(f *frame, variable, name string) (string, int) {
 	record := f.of.kinds[variable]
 	i, _ := types.Field(s.program, record, name)
 	return record, i
 }
 
-func (s *state) load(f *frame, x *api.Stmt) api.Errno {
+func (s *State) load(f *frame, x *api.Stmt) api.Errno {
 	address := f.get(x.From)
 	record, field := s.field(f, x.From, x.Field)
 	_, m := s.find(address)
@@ -37,7 +37,7 @@ func (s *state) load(f *frame, x *api.Stmt) api.Errno {
 	return e
 }
 
-func (s *state) save(f *frame, x *api.Stmt) api.Errno {
+func (s *State) save(f *frame, x *api.Stmt) api.Errno {
 	n, e := value.Expr(f.store, x.E)
 	if e != api.OK {
 		return e
@@ -52,7 +52,7 @@ func (s *state) save(f *frame, x *api.Stmt) api.Errno {
 	return e
 }
 
-func (s *state) allocate(f *frame, x *api.Stmt) api.Errno {
+func (s *State) allocate(f *frame, x *api.Stmt) api.Errno {
 	r, _ := types.Record(s.program, x.From)
 	m, address, e := memory.New(s.memory, first(&s.choices), r.Name, len(r.Fields))
 	if e == api.OK {
@@ -62,7 +62,7 @@ func (s *state) allocate(f *frame, x *api.Stmt) api.Errno {
 	return e
 }
 
-func (s *state) free(f *frame, x *api.Stmt) api.Errno {
+func (s *State) free(f *frame, x *api.Stmt) api.Errno {
 	address := f.get(x.Name)
 	i, m := s.find(address)
 	_, e := memory.Free(m, address)
