@@ -1,4 +1,4 @@
-// Package clone copies trees: a copy shares no memory with its tree, which the results of the layers must not do either.
+// Package clone copies trees and models: a copy shares no memory with its original, just as the results of the layers must share none with their arguments.
 package clone
 
 import (
@@ -91,4 +91,16 @@ func Proc(x api.Proc) api.Proc {
 	x.Locals = slices.Clone(x.Locals)
 	x.Body = Stmts(x.Body)
 	return x
+}
+
+// Model copies a model.
+func Model(m api.Model) api.Model {
+	m.Store = slices.Clone(m.Store)
+	m.Memory = list(m.Memory, block)
+	return m
+}
+
+func block(b api.Block) api.Block {
+	b.Fields = slices.Clone(b.Fields)
+	return b
 }

@@ -58,7 +58,7 @@ func overwrite(v reflect.Value) {
 	}
 }
 
-// check demands that a copy is equal to its tree, and that nothing in the tree changes with the copy.
+// check demands that a copy is equal to its original, and that nothing in the original changes with the copy.
 func check[T any](t *testing.T, depth int, copyOf func(T) T) {
 	t.Helper()
 	x, want := filled[T](depth), filled[T](depth)
@@ -77,12 +77,13 @@ func TestCopies(t *testing.T) {
 		check(t, depth, clone.Stmts)
 		check(t, depth, clone.Record)
 		check(t, depth, clone.Proc)
+		check(t, depth, clone.Model)
 		check(t, depth, func(s api.Stmt) api.Stmt { return clone.StmtWithin(s, depth) })
 	}
 }
 
 func TestEmptyLists(t *testing.T) {
-	if clone.Stmts(nil) != nil || clone.Record(api.Record{}).Fields != nil || !reflect.DeepEqual(clone.Proc(api.Proc{}), api.Proc{}) {
+	if clone.Stmts(nil) != nil || clone.Record(api.Record{}).Fields != nil || !reflect.DeepEqual(clone.Proc(api.Proc{}), api.Proc{}) || !reflect.DeepEqual(clone.Model(api.Model{}), api.Model{}) {
 		t.Error("nil")
 	}
 	none := api.Proc{Params: []api.Param{}, Requires: []api.Formula{}, Body: []api.Stmt{{Calls: []api.Call{}, Else: []api.Stmt{}}}}
