@@ -25,9 +25,10 @@ func expr(e api.Expr) api.Expr {
 	return e
 }
 
-func cond(c api.Cond) api.Cond {
+// Cond copies a condition.
+func Cond(c api.Cond) api.Cond {
 	c.A, c.B = expr(c.A), expr(c.B)
-	c.L = list(c.L, cond)
+	c.L = list(c.L, Cond)
 	return c
 }
 
@@ -61,7 +62,7 @@ func Stmts(l []api.Stmt) []api.Stmt {
 // StmtWithin copies a statement with the lists in it up to this many levels, and shares the deeper ones.
 func StmtWithin(s api.Stmt, levels int) api.Stmt {
 	s.E = expr(s.E)
-	s.C = cond(s.C)
+	s.C = Cond(s.C)
 	s.Calls = list(s.Calls, call)
 	s.Inv = list(s.Inv, formula)
 	s.Body = stmtsWithin(s.Body, levels)

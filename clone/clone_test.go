@@ -74,6 +74,7 @@ func check[T any](t *testing.T, depth int, copyOf func(T) T) {
 
 func TestCopies(t *testing.T) {
 	for depth := 1; depth <= 4; depth++ {
+		check(t, depth, clone.Cond)
 		check(t, depth, clone.Stmts)
 		check(t, depth, clone.Record)
 		check(t, depth, clone.Proc)
