@@ -20,37 +20,44 @@ func list[T any](l []T, copyOf func(T) T) []T {
 	return to
 }
 
-func expr(e api.Expr) api.Expr {
-	e.L = list(e.L, expr)
+// Expr copies an expression.
+func Expr(e api.Expr) api.Expr {
+	e.L = list(e.L, Expr)
 	return e
 }
 
 // Cond copies a condition.
 func Cond(c api.Cond) api.Cond {
-	c.A, c.B = expr(c.A), expr(c.B)
+	c.A, c.B = Expr(c.A), Expr(c.B)
 	c.L = list(c.L, Cond)
 	return c
 }
 
 func formula(f api.Formula) api.Formula {
 	f.Exists = slices.Clone(f.Exists)
-	f.Pure = list(f.Pure, atom)
+	f.Pure = Atoms(f.Pure)
 	f.Cells = list(f.Cells, cell)
 	return f
 }
 
-func atom(a api.Atom) api.Atom {
-	a.A, a.B = expr(a.A), expr(a.B)
+// Atom copies an atom.
+func Atom(a api.Atom) api.Atom {
+	a.A, a.B = Expr(a.A), Expr(a.B)
 	return a
 }
 
+// Atoms copies a list of atoms.
+func Atoms(l []api.Atom) []api.Atom {
+	return list(l, Atom)
+}
+
 func cell(c api.Cell) api.Cell {
-	c.Args = list(c.Args, expr)
+	c.Args = list(c.Args, Expr)
 	return c
 }
 
 func call(c api.Call) api.Call {
-	c.Args = list(c.Args, expr)
+	c.Args = list(c.Args, Expr)
 	return c
 }
 
@@ -61,7 +68,7 @@ func Stmts(l []api.Stmt) []api.Stmt {
 
 // StmtWithin copies a statement with the lists in it up to this many levels, and shares the deeper ones.
 func StmtWithin(s api.Stmt, levels int) api.Stmt {
-	s.E = expr(s.E)
+	s.E = Expr(s.E)
 	s.C = Cond(s.C)
 	s.Calls = list(s.Calls, call)
 	s.Inv = list(s.Inv, formula)

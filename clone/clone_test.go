@@ -74,6 +74,9 @@ func check[T any](t *testing.T, depth int, copyOf func(T) T) {
 
 func TestCopies(t *testing.T) {
 	for depth := 1; depth <= 4; depth++ {
+		check(t, depth, clone.Expr)
+		check(t, depth, clone.Atom)
+		check(t, depth, clone.Atoms)
 		check(t, depth, clone.Cond)
 		check(t, depth, clone.Stmts)
 		check(t, depth, clone.Record)
@@ -84,7 +87,7 @@ func TestCopies(t *testing.T) {
 }
 
 func TestEmptyLists(t *testing.T) {
-	if clone.Stmts(nil) != nil || clone.Record(api.Record{}).Fields != nil || !reflect.DeepEqual(clone.Proc(api.Proc{}), api.Proc{}) || !reflect.DeepEqual(clone.Model(api.Model{}), api.Model{}) {
+	if clone.Atoms(nil) != nil || clone.Stmts(nil) != nil || clone.Record(api.Record{}).Fields != nil || !reflect.DeepEqual(clone.Proc(api.Proc{}), api.Proc{}) || !reflect.DeepEqual(clone.Model(api.Model{}), api.Model{}) {
 		t.Error("nil")
 	}
 	none := api.Proc{Params: []api.Param{}, Requires: []api.Formula{}, Body: []api.Stmt{{Calls: []api.Call{}, Else: []api.Stmt{}}}}
